@@ -1,0 +1,1 @@
+"""Lookdone: a store that runs a transaction only when somebody looks."""

@@ -1,0 +1,78 @@
+"""The interface: what each module defines itself, and the arguments of it."""
+
+import ast
+import importlib
+import inspect
+import pathlib
+import unittest
+
+PACKAGE = pathlib.Path(__file__).resolve().parent.parent / "lookdone"
+
+# For each module its functions with their arguments.
+FUNCTIONS = {
+    "spans": {
+        "clip": "(number)", "hull": "(one, other)", "plus": "(one, other)", "minus": "(one, other)",
+        "times": "(one, other)", "less": "(one, other)", "same": "(one, other)",
+    },
+    "expressions": {
+        "is_expression": "(thing)", "parts_of": "(expression)", "depth_of": "(expression)", "is_plain": "(expression)",
+        "is_closed": "(expression)", "is_simple": "(expression)", "variables_of": "(expression)",
+        "columns_of": "(expression)", "keyed": "(expression, other)",
+    },
+    "expressiontexts": {"show_expression": "(expression)", "read_expression": "(thing)"},
+    "statements": {"is_transaction": "(thing)"},
+    "statementtexts": {"show_transaction": "(transaction)", "read_transaction": "(thing)"},
+}
+
+# For each module its classes with the methods and properties that they define.
+CLASSES = {
+    "errors": {
+        "StoreError": {}, "BadText": {}, "Refused": {}, "NotKept": {}, "NoSlot": {}, "TooLarge": {}, "Conflict": {},
+        "Closed": {}, "BadRow": {}, "NoSession": {},
+    },
+    "plain": {
+        "PlainStore": {
+            "commit": "(self, transaction)", "run": "(self, *statements)", "moment": None,
+            "value": "(self, expression, *, moment=None)",
+        },
+    },
+}
+
+
+def defined_in(module):
+    """The functions and classes that the file of the module defines, by their names."""
+    tree = ast.parse((PACKAGE / f"{module}.py").read_text(encoding="ascii"))
+    return {node.name: node for node in tree.body if isinstance(node, (ast.FunctionDef, ast.ClassDef))}
+
+
+class InterfaceTest(unittest.TestCase):
+
+    def test_functions(self):
+        for module, functions in FUNCTIONS.items():
+            there = importlib.import_module(f"lookdone.{module}")
+            for name, arguments in functions.items():
+                with self.subTest(module=module, name=name):
+                    self.assertIsInstance(defined_in(module)[name], ast.FunctionDef)
+                    self.assertEqual(str(inspect.signature(getattr(there, name))), arguments)
+
+    def test_classes(self):
+        for module, classes in CLASSES.items():
+            there = importlib.import_module(f"lookdone.{module}")
+            for name, methods in classes.items():
+                self.assertIsInstance(defined_in(module)[name], ast.ClassDef)
+                own = vars(getattr(there, name))
+                for method, arguments in methods.items():
+                    with self.subTest(module=module, name=name, method=method):
+                        if arguments is None:
+                            self.assertIsInstance(own[method], property)
+                        else:
+                            self.assertEqual(str(inspect.signature(own[method])), arguments)
+
+    def test_the_package_is_one_folder_of_python_files(self):
+        names = [path.name for path in PACKAGE.iterdir() if path.name != "__pycache__"]
+        self.assertIn("__init__.py", names)
+        self.assertEqual([name for name in names if not name.endswith(".py")], [])
+
+
+if __name__ == "__main__":
+    unittest.main()
