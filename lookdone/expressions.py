@@ -86,20 +86,38 @@ def contained_of(expression, wanted):
     return found
 
 
-def with_contained_free(expression, parts):
-    """The expression with these parts in place of those of contained_free."""
+def with_contained_of(expression, wanted, parts):
+    """The expression with these parts in place of those of contained_of."""
     found = [expression[0]]
     used = 0
     for kind, part in zip(FIELDS[expression[0]], expression[1:]):
         if kind == "extra":
             found.append(tuple(parts[used:used + len(part)]))
             used += len(part)
-        elif kind == "free":
+        elif kind in wanted:
             found.append(parts[used])
             used += 1
         else:
             found.append(part)
     return tuple(found)
+
+
+def folded(expression, wanted, made):
+    """What is made of the expression: made(part, what was made of its contained_of)."""
+    done = []
+    todo = [(expression, False)]
+    while todo:
+        part, is_ready = todo.pop()
+        inner = contained_of(part, wanted)
+        if inner and not is_ready:
+            todo.append((part, True))
+            todo.extend([(thing, False) for thing in inner[::-1]])
+        else:
+            start = len(done) - len(inner)
+            parts = done[start:]
+            del done[start:]
+            done.append(made(part, parts))
+    return done[0]
 
 
 def one_deeper(expressions):
@@ -188,20 +206,23 @@ def columns_of(expression):
 
 def keyed(expression, other):
     """The expression with the other one, a closed one, in place of each free key."""
-    done = []
-    todo = [(expression, False)]
-    while todo:
-        part, is_ready = todo.pop()
-        inner = contained_free(part)
+    wanted = ("free",)
+
+    def made(part, parts):
         if part[0] == "key":
-            done.append(other)
-        elif not inner:
-            done.append(part)
-        elif is_ready:
-            changed = with_contained_free(part, done[-len(inner):])
-            del done[-len(inner):]
-            done.append(changed)
-        else:
-            todo.append((part, True))
-            todo.extend([(thing, False) for thing in inner[::-1]])
-    return done[0]
+            return other
+        return with_contained_of(part, wanted, parts) if parts else part
+
+    return folded(expression, wanted, made)
+
+
+def with_variables(expression, others):
+    """The expression with the other ones in place of the variables that have one there."""
+    wanted = ("free", "bound")
+
+    def made(part, parts):
+        if part[0] == "var":
+            return others.get(part[1], part)
+        return with_contained_of(part, wanted, parts) if parts else part
+
+    return folded(expression, wanted, made)

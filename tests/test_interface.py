@@ -22,6 +22,24 @@ FUNCTIONS = {
     "expressiontexts": {"show_expression": "(expression)", "read_expression": "(thing)"},
     "statements": {"is_transaction": "(thing)"},
     "statementtexts": {"show_transaction": "(transaction)", "read_transaction": "(thing)"},
+    "logs": {
+        "log_of": "(*transactions)", "is_log": "(thing)", "statement_at": "(log, position)",
+        "let_of": "(log, position, variable)",
+    },
+    "slots": {
+        "is_slot": "(log, thing)", "expression_of": "(log, slot)", "may_stand": "(log, expression, position)",
+        "writers": "(log, table, column, position)",
+    },
+    "slotspans": {"span_of": "(log, expression, position)", "slot_span": "(log, slot)"},
+    "evaluation": {
+        "value_of": "(log, expression, position)", "needed": "(log, expression, position)",
+        "evaluated": "(log, expression, position, *, entries=())",
+    },
+    "workers": {"worked": "(log, looks, turns, *, entries=())"},
+    "compacting": {
+        "is_hidden": "(log, position, other, *, entries=())", "live": "(log, moments, *, entries=())",
+        "compact": "(log, moments, *, entries=())",
+    },
 }
 
 # For each module its classes with the methods and properties that they define.
@@ -34,6 +52,20 @@ CLASSES = {
         "PlainStore": {
             "commit": "(self, transaction)", "run": "(self, *statements)", "moment": None,
             "value": "(self, expression, *, moment=None)",
+        },
+    },
+    # The rest of this class comes with a later issue.
+    "stores": {
+        "LazyStore": {
+            "commit": "(self, transaction)", "run": "(self, *statements)", "look": "(self, expression, *, moment=None)",
+            "early": "(self, thing)", "keep": "(self)", "free": "(self, moment)", "session": "(self)",
+            "work": "(self, *looks, turns=())", "moment": None, "log": None, "journal": None, "kept": None,
+        },
+    },
+    "sessions": {
+        "Session": {
+            "__init__": "(self, store)", "look": "(self, expression)", "do": "(self, transaction)", "close": "(self)",
+            "events": None, "moment": None, "is_closed": None,
         },
     },
 }
