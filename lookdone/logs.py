@@ -36,6 +36,15 @@ def are_marks(thing):
     return all([one <= other for one, other in zip(thing, thing[1:])])
 
 
+def are_moments(thing, marks):
+    """Whether the thing is an ascending tuple of moments of a log with these marks."""
+    if not isinstance(thing, tuple) or not all([is_integer(moment) for moment in thing]):
+        return False
+    if not all([0 <= moment < len(marks) for moment in thing]):
+        return False
+    return all([one < other for one, other in zip(thing, thing[1:])])
+
+
 def are_entries(thing, end):
     """Whether the thing, but for its statements, may be the entries of a log up to this end."""
     if not isinstance(thing, tuple):
@@ -75,10 +84,15 @@ def let_of(log, position, variable):
     return lets_at(log, position).get(variable)
 
 
+def start_of(marks, position):
+    """Where the transaction of the position starts."""
+    return max([mark for mark in marks if mark <= position], default=0)
+
+
 def lets_at(log, position):
     """The positions of the lets below the position in its transaction, by their variables."""
     marks, entries = log
-    start = max([mark for mark in marks if mark <= position], default=0)
+    start = start_of(marks, position)
     return {
         statement[1]: place for place, statement in entries
         if start <= place < position and statement[0] == "let"

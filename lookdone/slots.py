@@ -16,11 +16,18 @@ SLOTS = {
 
 def is_slot(log, thing):
     """Whether the thing, any value of Python, is a slot of the log."""
+    return has_slot_form(thing) and is_slot_of(statement_at(log, thing[0]), thing)
+
+
+def has_slot_form(thing):
+    """Whether the thing, any value of Python, has a position and a word like a slot."""
     if not isinstance(thing, tuple) or len(thing) not in (2, 3):
         return False
-    if not is_integer(thing[0]) or not isinstance(thing[1], str):
-        return False
-    statement = statement_at(log, thing[0])
+    return is_integer(thing[0]) and isinstance(thing[1], str)
+
+
+def is_slot_of(statement, thing):
+    """Whether the statement, or None, at the position in such a thing has this slot."""
     if statement is None or thing[1] not in SLOTS[statement[0]]:
         return False
     if statement[0] == "each":
@@ -39,12 +46,16 @@ def slot_expression(statement, word):
 
 def expression_of(log, slot):
     """The expression of the slot, with ("let", q) in place of its variables."""
-    expression = slot_expression(statement_at(log, slot[0]), slot[1])
-    lets = lets_at(log, slot[0])
-    expression = with_variables(expression, {name: ("let", lets[name]) for name in lets})
+    expression = with_lets(log, slot_expression(statement_at(log, slot[0]), slot[1]), slot[0])
     if len(slot) == 3:
         return keyed(expression, ("int", slot[2]))
     return expression
+
+
+def with_lets(log, expression, position):
+    """The expression of the position's statement with ("let", q) in place of its variables."""
+    lets = lets_at(log, position)
+    return with_variables(expression, {name: ("let", lets[name]) for name in lets})
 
 
 def may_stand(log, expression, position):

@@ -1,8 +1,11 @@
 """The lazy store: what is committed is evaluated when somebody looks."""
 
-from lookdone.books import Book, log_in
+from lookdone.books import Book, book_of, log_in
+from lookdone.compacting import compacted_log
+from lookdone.cuts import evaluated_at_cut
 from lookdone.errors import NoSlot, NotKept, Refused
 from lookdone.kinds import is_integer
+from lookdone.logtexts import read_log, show_log
 from lookdone.sessions import Session
 from lookdone.slots import is_slot
 from lookdone.trials import answered, commit_to
@@ -61,9 +64,13 @@ class LazyStore:
         """Commit the transaction of these statements."""
         return self.commit(statements)
 
-    def look(self, expression, *, moment=None):
-        """The value of a closed plain expression at the present moment, or at a kept one."""
-        value, found = evaluated_by_one(Look(self.node_at(expression, moment)))
+    def look(self, expression, *, moment=None, cut=None):
+        """The value of a closed plain expression at the present moment, or at a kept one.
+
+        With a cut the slots at the cut and above it are not evaluated.
+        """
+        root = self.node_at(expression, moment)
+        value, found = evaluated_by_one(Look(root)) if cut is None else evaluated_at_cut(root, cut)
         self.note(found)
         return value
 
@@ -105,3 +112,21 @@ class LazyStore:
         values, begun, found = shared_out(roots, turns)
         self.note(found)
         return (values, begun)
+
+    def saved(self):
+        """The text of the log and the kept moments."""
+        return show_log(self.log, self.kept)
+
+    def compacted(self):
+        """The text of the compacted log, for the kept moments and the present one, and the kept moments."""
+        return show_log(compacted_log(self.book, (*self.kept, self.moment)), self.kept)
+
+    @classmethod
+    def restart(cls, thing, journal=()):
+        """A new store with the log and the kept moments of the text, and these evaluated slots, or BadText."""
+        log, kept = read_log(thing)
+        store = cls()
+        store.book = book_of(log, journal)
+        store.ended = list(journal)
+        store.held = {moment: True for moment in kept}
+        return store

@@ -43,10 +43,18 @@ class Worker:
         low, high = span_at(thing, key)
         if low == high:
             return low
-        found = thing.answers.get(key if thing.is_keyed else None)
+        found = self.answer_of(thing, key)
         if found is None:
             self.tasks.append(task_for(thing, key))
         return found
+
+    def answer_of(self, thing, key):
+        """The value of the thing if it was found out before, otherwise None."""
+        return thing.answers.get(key if thing.is_keyed else None)
+
+    def keep_answer(self, thing, key, found):
+        """Keep what was found out."""
+        thing.answers[key if thing.is_keyed else None] = found
 
     def truth(self, thing, key):
         """Whether the value of the thing is not 0, by its span if that decides; None as above."""
@@ -71,14 +79,15 @@ class Worker:
 
 
 class Look:
-    """The task to evaluate a closed expression."""
+    """The task to evaluate an expression; it is closed, or the key is the one that is free in it."""
 
-    def __init__(self, root):
+    def __init__(self, root, key=None):
         self.root = root
+        self.key = key
 
     def tried(self, worker):
         """The value, or None."""
-        return worker.evaluate(self.root, None)
+        return worker.evaluate(self.root, self.key)
 
 
 class Request:
@@ -125,7 +134,7 @@ class Task:
         else:
             found = self.tally.tried(worker)
         if found is not None:
-            thing.answers[self.key if thing.is_keyed else None] = found
+            worker.keep_answer(thing, self.key, found)
         return found
 
 
@@ -253,8 +262,11 @@ RULES = {
 
 def evaluated_by_one(first):
     """The answer of a first task, and the slots that were evaluated for it, with their values."""
-    ended = []
-    worker = Worker(0, first, [], ended)
+    return finished(Worker(0, first, [], []))
+
+
+def finished(worker):
+    """The answer of the worker's first task, and the slots that were evaluated for it, with their values."""
     while not worker.is_done():
         worker.take_turn()
-    return (worker.told, ended)
+    return (worker.told, worker.ended)

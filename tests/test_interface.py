@@ -40,6 +40,15 @@ FUNCTIONS = {
         "is_hidden": "(log, position, other, *, entries=())", "live": "(log, moments, *, entries=())",
         "compact": "(log, moments, *, entries=())",
     },
+    "leading": {
+        "led": "(log, expression, position)", "led_back": "(log, expression, position, cut)",
+        "steps_back": "(log, expression, position)", "cut_look": "(log, expression, position, cut)",
+    },
+    "traces": {"trace_of": "(log, expression, position)"},
+    "tracechecks": {"trace_holds": "(log, expression, position, thing)"},
+    "logtexts": {"show_log": "(log, kept)", "read_log": "(thing)"},
+    "views": {"view": "(store, table, *columns, moment=None)"},
+    "findings": {"finding_holds": "(thing)"},
 }
 
 # For each module its classes with the methods and properties that they define.
@@ -54,12 +63,11 @@ CLASSES = {
             "value": "(self, expression, *, moment=None)",
         },
     },
-    # The rest of this class comes with a later issue.
     "stores": {
         "LazyStore": {
-            "commit": "(self, transaction)", "run": "(self, *statements)", "look": "(self, expression, *, moment=None)",
-            "early": "(self, thing)", "keep": "(self)", "free": "(self, moment)", "session": "(self)",
-            "work": "(self, *looks, turns=())", "moment": None, "log": None, "journal": None, "kept": None,
+            "commit": "(self, transaction)", "run": "(self, *statements)",
+            "look": "(self, expression, *, moment=None, cut=None)", "early": "(self, thing)", "keep": "(self)", "free": "(self, moment)", "session": "(self)",
+            "work": "(self, *looks, turns=())", "saved": "(self)", "compacted": "(self)", "moment": None, "log": None, "journal": None, "kept": None,
         },
     },
     "sessions": {
@@ -68,6 +76,7 @@ CLASSES = {
             "events": None, "moment": None, "is_closed": None,
         },
     },
+    "consoles": {"Console": {"__init__": "(self)", "say": "(self, thing)"}},
 }
 
 
@@ -99,6 +108,15 @@ class InterfaceTest(unittest.TestCase):
                             self.assertIsInstance(own[method], property)
                         else:
                             self.assertEqual(str(inspect.signature(own[method])), arguments)
+
+    def test_what_is_no_method(self):
+        restart = vars(importlib.import_module("lookdone.stores").LazyStore)["restart"]
+        self.assertIsInstance(restart, classmethod)
+        self.assertEqual(str(inspect.signature(restart.__func__)), "(cls, thing, journal=())")
+        steps_back = importlib.import_module("lookdone.leading").steps_back
+        self.assertIs(inspect.isgeneratorfunction(steps_back), True)
+        words = vars(importlib.import_module("lookdone.consoles").Console)["WORDS"]
+        self.assertIsInstance(words, tuple)
 
     def test_the_package_is_one_folder_of_python_files(self):
         names = [path.name for path in PACKAGE.iterdir() if path.name != "__pycache__"]
