@@ -4,6 +4,7 @@ Nothing here evaluates a slot: where an evaluation would have to, it is stuck.
 """
 
 from lookdone.kinds import is_value
+from lookdone.logs import statements_of
 from lookdone.nodespans import span_at
 from lookdone.slots import has_slot_form, is_slot_of
 from lookdone.workings import Look, Worker
@@ -38,7 +39,7 @@ def are_slot_entries(log, thing):
     """Whether the thing, any value of Python, is an ascending tuple of (slot, value), no slot twice."""
     if not isinstance(thing, tuple):
         return False
-    statements = {position: statement for position, statement in log[1]}
+    statements = statements_of(log)
     if not all([is_slot_entry(statements, entry) for entry in thing]):
         return False
     return all([one[0] < other[0] for one, other in zip(thing, thing[1:])])

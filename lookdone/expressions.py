@@ -32,6 +32,9 @@ OPERATIONS = ("+", "-", "*", "<", "=")
 
 AGGREGATES = ("count", "sum", "most", "first")
 
+# Besides those of extra.
+ALL_PARTS = ("free", "bound")
+
 
 def is_expression(thing):
     """Whether the thing, any value of Python, is an expression."""
@@ -67,7 +70,7 @@ def fits(kind, part):
 
 def contained(expression):
     """The expressions that the expression contains directly, in order."""
-    return contained_of(expression, ("free", "bound"))
+    return contained_of(expression, ALL_PARTS)
 
 
 def contained_free(expression):
@@ -218,11 +221,10 @@ def keyed(expression, other):
 
 def with_variables(expression, others):
     """The expression with the other ones in place of the variables that have one there."""
-    wanted = ("free", "bound")
 
     def made(part, parts):
         if part[0] == "var":
             return others.get(part[1], part)
-        return with_contained_of(part, wanted, parts) if parts else part
+        return with_contained_of(part, ALL_PARTS, parts) if parts else part
 
-    return folded(expression, wanted, made)
+    return folded(expression, ALL_PARTS, made)

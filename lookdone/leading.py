@@ -3,10 +3,9 @@
 from lookdone.books import book_of
 from lookdone.cuts import evaluated_at_cut
 from lookdone.errors import TooLarge
-from lookdone.expressions import AGGREGATES, all_parts, columns_of, folded, one_deeper, with_contained_of
+from lookdone.expressions import AGGREGATES, ALL_PARTS, all_parts, columns_of, folded, one_deeper, with_contained_of
+from lookdone.logs import statements_of
 from lookdone.slots import column_of, slot_expression, with_lets
-
-ALL_PARTS = ("free", "bound")
 
 MOST_PARTS = 2000
 DEEPEST = 100
@@ -46,7 +45,7 @@ class Way:
 
     def __init__(self, log, expression):
         self.through = log
-        self.statements = {place: statement for place, statement in log[1]}
+        self.statements = statements_of(log)
         self.expression = expression
         self.reads = read_by(expression)
         self.is_small = False

@@ -71,6 +71,11 @@ def parted(marks, entries):
     return found
 
 
+def statements_of(log):
+    """The statements by their positions."""
+    return {position: statement for position, statement in log[1]}
+
+
 def statement_at(log, position):
     """The statement at the position, or None."""
     for place, statement in log[1]:

@@ -1,9 +1,7 @@
 """Nodes: the parts of an expression that stands somewhere in a log."""
 
-from lookdone.expressions import AGGREGATES, folded
+from lookdone.expressions import AGGREGATES, ALL_PARTS, folded
 from lookdone.kinds import LIMIT
-
-ALL_PARTS = ("free", "bound")
 
 # Where the part of an aggregate stands behind the expressions of extra.
 ROWS = 0

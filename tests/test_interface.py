@@ -66,8 +66,9 @@ CLASSES = {
     "stores": {
         "LazyStore": {
             "commit": "(self, transaction)", "run": "(self, *statements)",
-            "look": "(self, expression, *, moment=None, cut=None)", "early": "(self, thing)", "keep": "(self)", "free": "(self, moment)", "session": "(self)",
-            "work": "(self, *looks, turns=())", "saved": "(self)", "compacted": "(self)", "moment": None, "log": None, "journal": None, "kept": None,
+            "look": "(self, expression, *, moment=None, cut=None)", "early": "(self, thing)", "keep": "(self)",
+            "free": "(self, moment)", "session": "(self)", "work": "(self, *looks, turns=())", "saved": "(self)",
+            "compacted": "(self)", "moment": None, "log": None, "journal": None, "kept": None,
         },
     },
     "sessions": {
