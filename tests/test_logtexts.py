@@ -54,6 +54,9 @@ class ShowTest(unittest.TestCase):
         for kept, line in (((), "kept"), ((0,), "kept 0"), ((2,), "kept 2"), ((0, 1, 2), "kept 0 1 2"), ((0, 2), "kept 0 2")):
             self.check(TWO_PUTS, kept, f"marks 0 1 2\n{line}\n0 put t[1].a = 2\n1 put t[1].a = 3")
 
+    def test_kept_moments_are_written_ascending(self):
+        self.assertEqual(asked_twice(self, show_log, TWO_PUTS, (2, 0)), show_log(TWO_PUTS, (0, 2)))
+
     def test_each_statement(self):
         log, kept = read_log(TEXT)
         self.assertEqual(log[0], (0, 4, 4, 9))
