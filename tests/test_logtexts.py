@@ -198,6 +198,26 @@ class ReadTest(unittest.TestCase):
         self.bad("marks 0 4\nkept 1\n9 tell x\nnothing", 2)
         self.bad("marks 0 4\nkept 1\n0 tell 1\nnothing\n9 tell x", 3)
 
+    def test_texts_with_one_sign_put_otherwise(self):
+        """What is read is shown as the same text; otherwise the lines before the first bad one are such a text."""
+        counts = {True: 0, False: 0}
+        signs = "abdeiklmnoprstx0123 ;().[]=+-<*,\n"
+        for seed in range(2000):
+            draw = random.Random(seed)
+            log = random_log(draw, 3)
+            text = show_log(log, tuple(range(0, len(log[0]), 2)))
+            place = draw.randrange(len(text))
+            text = text[:place] + draw.choice((draw.choice(signs), "", text[place] * 2)) + text[place + 1:]
+            try:
+                self.assertEqual(show_log(*read_log(text)), text)
+            except BadText as error:
+                lines = text.split("\n")
+                self.bad("\n".join(lines[:error.line + 1]), error.line)
+                if error.line > 1:
+                    self.assertEqual(len(read_log("\n".join(lines[:error.line]))[0][1]), error.line - 2)
+            counts[text.startswith("marks 0")] += 1
+        self.assertGreater(min(counts.values()), 10)
+
     def test_depth(self):
         inner = "1"
         for _ in range(29):

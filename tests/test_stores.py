@@ -1,4 +1,4 @@
-"""Points 20 to 23, and what there is so far of lookdone/stores.py."""
+"""Points 20 to 23 and 28: lookdone/stores.py, but for cuts and restarts."""
 
 import random
 import unittest
