@@ -210,13 +210,14 @@ class ReadTest(unittest.TestCase):
             text = text[:place] + draw.choice((draw.choice(signs), "", text[place] * 2)) + text[place + 1:]
             try:
                 self.assertEqual(show_log(*read_log(text)), text)
+                counts[True] += 1
             except BadText as error:
+                counts[False] += 1
                 lines = text.split("\n")
                 self.bad("\n".join(lines[:error.line + 1]), error.line)
                 if error.line > 1:
                     self.assertEqual(len(read_log("\n".join(lines[:error.line]))[0][1]), error.line - 2)
-            counts[text.startswith("marks 0")] += 1
-        self.assertGreater(min(counts.values()), 10)
+        self.assertGreater(min(counts.values()), 100)
 
     def test_depth(self):
         inner = "1"
